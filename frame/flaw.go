@@ -30,6 +30,11 @@ func Flaws(f api.Frame) []api.Flaw {
 	return flaws
 }
 
+// Sound reports whether a frame has no flaws.
+func Sound(f api.Frame) bool {
+	return !isWide(f) && isSound(f)
+}
+
 // Mend returns the sound frame that a frame with one spoilt word was, and the place of the word.
 func Mend(f api.Frame) (api.Frame, []int, bool) {
 	if isWide(f) {

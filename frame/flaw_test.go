@@ -15,6 +15,9 @@ func wantFlaws(t *testing.T, name string, f api.Frame, want ...api.Flaw) {
 	if got := frame.Flaws(f); !slices.Equal(got, want) {
 		t.Errorf("%s: flaws %v, want %v", name, got, want)
 	}
+	if got := frame.Sound(f); got != (len(want) == 0) {
+		t.Errorf("%s: sound is %v with the flaws %v", name, got, want)
+	}
 }
 
 // A3

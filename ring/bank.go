@@ -28,7 +28,7 @@ func Frames(l []api.Memory) ([]api.Frame, api.Errno) {
 	}
 	latest := map[int]api.Kept{}
 	for _, k := range b.kept() {
-		if !isSound(k.Frame) {
+		if !frame.Sound(k.Frame) {
 			continue
 		}
 		number, _ := frame.Number(k.Frame)
@@ -69,13 +69,8 @@ func Targets(number, memories, copies int) ([]int, api.Errno) {
 
 // bankOf takes the memories themselves: who writes into them copies them first.
 func bankOf(l []api.Memory) (bank, api.Errno) {
-	if len(l) < 1 || len(l) > MaxMemories {
-		return bank{}, api.ErrSize
-	}
-	for _, m := range l {
-		if e := CheckMemory(m); e != api.OK {
-			return bank{}, e
-		}
+	if e := CheckMemories(l); e != api.OK {
+		return bank{}, e
 	}
 	return bank{l}, api.OK
 }
@@ -140,8 +135,4 @@ func targets(number, memories, copies int) []int {
 		l[i] = (number + i) % memories
 	}
 	return l
-}
-
-func isSound(f api.Frame) bool {
-	return len(frame.Flaws(f)) == 0
 }

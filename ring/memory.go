@@ -45,6 +45,19 @@ func CheckMemory(m api.Memory) api.Errno {
 	return api.OK
 }
 
+// CheckMemories returns what is wrong with memories that belong together.
+func CheckMemories(l []api.Memory) api.Errno {
+	if len(l) < 1 || len(l) > MaxMemories {
+		return api.ErrSize
+	}
+	for _, m := range l {
+		if e := CheckMemory(m); e != api.OK {
+			return e
+		}
+	}
+	return api.OK
+}
+
 // Damage returns the memory with a sector that does not work any more.
 func Damage(m api.Memory, sector int) (api.Memory, api.Errno) {
 	if e := CheckMemory(m); e != api.OK {

@@ -111,6 +111,7 @@ func TestListsOfMemories(t *testing.T) {
 		{"the other one first", []api.Memory{good[0], torn, small}, api.ErrForm},
 		{"the last one", append(copyOfAll(good[:7]), torn), api.ErrForm},
 	} {
+		wantErrno(t, "CheckMemories, "+x.name, ring.CheckMemories(x.l), x.want)
 		kept, e := ring.Recover(x.l)
 		wantErrno(t, "Recover, "+x.name, e, x.want)
 		frames, e := ring.Frames(x.l)
@@ -121,6 +122,7 @@ func TestListsOfMemories(t *testing.T) {
 		wantErrno(t, "Mount, "+x.name, e, x.want)
 		wantNothing(t, x.name, kept, frames, n, r)
 	}
+	wantErrno(t, "as many as can be", ring.CheckMemories(good), api.OK)
 	_, e := ring.Frames(good)
 	wantErrno(t, "as many as can be", e, api.OK)
 	mounted(t, good, ring.MaxMemories)

@@ -43,7 +43,7 @@ func (r *Recorder) Record(f api.Frame, power int) (int, bool, api.Errno) {
 	if e := r.check(power); e != api.OK {
 		return 0, false, e
 	}
-	if !isSound(f) {
+	if !frame.Sound(f) {
 		return 0, false, api.ErrForm
 	}
 	number, _ := frame.Number(f)
