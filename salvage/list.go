@@ -4,7 +4,7 @@ import "orangebox/api"
 
 // Gaps returns the numbers of which nothing is left.
 func Gaps(l []api.Rest) ([]api.Gap, api.Errno) {
-	if e := checkRising(l); e != api.OK {
+	if e := CheckRising(l); e != api.OK {
 		return nil, e
 	}
 	if len(l) == 0 {
@@ -44,7 +44,7 @@ func Conflicts(l []api.Rest) ([]int, api.Errno) {
 // Superframe returns the rests of the superframe that begins with a number.
 func Superframe(l []api.Rest, first int) ([api.Super]api.Rest, api.Errno) {
 	var s [api.Super]api.Rest
-	if e := checkRising(l); e != api.OK {
+	if e := CheckRising(l); e != api.OK {
 		return s, e
 	}
 	if first < 0 || first > api.Number-api.Super {
@@ -64,8 +64,8 @@ func Superframe(l []api.Rest, first int) ([api.Super]api.Rest, api.Errno) {
 	return s, api.OK
 }
 
-// checkRising returns the error of rests whose numbers must rise.
-func checkRising(l []api.Rest) api.Errno {
+// CheckRising returns what is wrong with rests whose numbers must rise: first what is wrong with one of them.
+func CheckRising(l []api.Rest) api.Errno {
 	if e := checkRests(l); e != api.OK {
 		return e
 	}
