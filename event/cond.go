@@ -20,7 +20,7 @@ func CheckCond(c api.Cond) api.Errno {
 	if !isWithinLimits(c) {
 		return api.ErrSize
 	}
-	for x := range all(c) {
+	for x := range All(c) {
 		if e := checkAlone(x); e != api.OK {
 			return e
 		}
@@ -72,8 +72,8 @@ func count(c api.Cond, level int, nodes *int) bool {
 	return true
 }
 
-// all yields a condition and those in it, each one before those in it.
-func all(c api.Cond) iter.Seq[api.Cond] {
+// All yields a condition and those in it, each one before those in it. It wants a condition within the limits.
+func All(c api.Cond) iter.Seq[api.Cond] {
 	return func(yield func(api.Cond) bool) { visit(c, yield) }
 }
 
@@ -98,7 +98,7 @@ func checkAlone(c api.Cond) api.Errno {
 	if !hasForm(c, r) {
 		return api.ErrForm
 	}
-	if r.name && !isName(c.Name) || r.other && !isName(c.Other) {
+	if r.name && !IsName(c.Name) || r.other && !IsName(c.Other) {
 		return api.ErrName
 	}
 	if r.op && (c.Op < api.Less || c.Op > api.Greater) {

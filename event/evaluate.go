@@ -65,7 +65,7 @@ func run(r api.Rules, l []api.Track, from, to int) iter.Seq2[[]int, *Watch] {
 		names := tracksOf(r)
 		l = slices.DeleteFunc(slices.Clone(l), func(t api.Track) bool { return !slices.Contains(names, t.Name) })
 		frames := to - from + 1
-		told := each(l, func(t api.Track) []api.Told { return toldIn(t, from, frames) })
+		told := each(l, func(t api.Track) []api.Told { return ToldIn(t, from, frames) })
 		w := watchOf(r, l)
 		for i := range frames {
 			x := each(told, func(t []api.Told) api.Told { return t[i] })

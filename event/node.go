@@ -79,7 +79,7 @@ func (c condTracks) truth(now *moment) int {
 	if !x.Known || !y.Known {
 		return api.Unknown
 	}
-	return truthOf(holds(c.op, order(x.N, c.one.den, y.N, c.other.den)))
+	return truthOf(holds(c.op, Compare(x.N, c.one.den, y.N, c.other.den)))
 }
 
 func (c condSteady) truth(now *moment) int {

@@ -73,7 +73,7 @@ func Merge(a, b api.Rules) (api.Rules, api.Errno) {
 
 func checkPhases(phases []string) api.Errno {
 	for i, phase := range phases {
-		if !isName(phase) {
+		if !IsName(phase) {
 			return api.ErrName
 		}
 		if slices.Contains(phases[:i], phase) {
@@ -90,7 +90,7 @@ func checkMove(m api.Move, phases []string) api.Errno {
 	if e := CheckCond(m.When); e != api.OK {
 		return e
 	}
-	for c := range all(m.When) {
+	for c := range All(m.When) {
 		if c.Kind == api.CondPhase || c.Kind == api.CondRule {
 			return api.ErrForm
 		}
@@ -99,7 +99,7 @@ func checkMove(m api.Move, phases []string) api.Errno {
 }
 
 func checkRule(r api.Rule, earlier []api.Rule, phases []string) api.Errno {
-	if !isName(r.Name) {
+	if !IsName(r.Name) {
 		return api.ErrName
 	}
 	if ruleNumber(earlier, r.Name) >= 0 {
@@ -108,7 +108,7 @@ func checkRule(r api.Rule, earlier []api.Rule, phases []string) api.Errno {
 	if e := CheckCond(r.When); e != api.OK {
 		return e
 	}
-	for c := range all(r.When) {
+	for c := range All(r.When) {
 		if c.Kind == api.CondPhase && !slices.Contains(phases, c.Name) {
 			return api.ErrNone
 		}
@@ -128,7 +128,7 @@ func ruleNumber(l []api.Rule, name string) int {
 func tracksOf(r api.Rules) []string {
 	var names []string
 	add := func(whole api.Cond) {
-		for c := range all(whole) {
+		for c := range All(whole) {
 			switch c.Kind {
 			case api.CondNumber, api.CondSteady:
 				names = append(names, c.Name)

@@ -41,7 +41,7 @@ func runToken(run string, at int) token {
 	switch {
 	case isWord(run):
 		return token{wordToken, at, run}
-	case isName(run):
+	case IsName(run):
 		return token{nameToken, at, run}
 	case isNumber(run):
 		return token{numberToken, at, run}

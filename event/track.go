@@ -14,7 +14,7 @@ func CheckTracks(l []api.Track) api.Errno {
 		return api.ErrSize
 	}
 	for i, t := range l {
-		if !isName(t.Name) {
+		if !IsName(t.Name) {
 			return api.ErrName
 		}
 		if trackNumber(l[:i], t.Name) >= 0 {
@@ -38,7 +38,7 @@ func Inputs(l []api.Track, number int) ([]api.Told, api.Errno) {
 	if number < 0 || number >= api.Number {
 		return nil, api.ErrRange
 	}
-	return each(l, func(t api.Track) api.Told { return toldIn(t, number, 1)[0] }), api.OK
+	return each(l, func(t api.Track) api.Told { return ToldIn(t, number, 1)[0] }), api.OK
 }
 
 // trackNumber returns the number of the track with a name, or -1.
@@ -46,8 +46,8 @@ func trackNumber(l []api.Track, name string) int {
 	return slices.IndexFunc(l, func(t api.Track) bool { return t.Name == name })
 }
 
-// toldIn returns what a track is in so many frames, from one on.
-func toldIn(t api.Track, from, frames int) []api.Told {
+// ToldIn returns what a track is in so many frames, from one on.
+func ToldIn(t api.Track, from, frames int) []api.Told {
 	const last = api.Ticks - 1 // the tick of a frame by which it is told
 	s, _ := series.Resample(t.Series, api.Ticks*from+last, api.Ticks, frames, t.Long)
 	return each(s.Samples, func(x api.Sample) api.Told {
@@ -55,8 +55,8 @@ func toldIn(t api.Track, from, frames int) []api.Told {
 	})
 }
 
-// order returns how a / denA compares with b / denB. It divides first, for a product of a and denB could be beyond an int.
-func order(a, denA, b, denB int) int {
+// Compare returns how a / denA compares with b / denB. It divides first, for a product of a and denB could be beyond an int.
+func Compare(a, denA, b, denB int) int {
 	return cmp.Or(cmp.Compare(a/denA, b/denB), cmp.Compare(a%denA*denB, b%denB*denA))
 }
 

@@ -57,7 +57,12 @@ func FromRests(m api.Map, name string, l []api.Rest) (api.Series, api.Errno) {
 	if e := salvage.CheckRising(l); e != api.OK {
 		return api.Series{}, e
 	}
-	r, e := readerOf(m.Version, m.Params[i])
+	return FromRising(m.Version, m.Params[i], l)
+}
+
+// FromRising is FromRests for one who has asked already for what can be wrong with the map and the rests: all but too many samples. The parameter is one of a map with a version.
+func FromRising(version int, p api.Param, l []api.Rest) (api.Series, api.Errno) {
+	r, e := readerOf(version, p)
 	if e != api.OK {
 		return api.Series{}, e
 	}
