@@ -117,7 +117,7 @@ func (b *builder) move(m api.Move) move {
 }
 
 func (b *builder) measured(name string) measured {
-	i := trackNumber(b.tracks, name)
+	i := TrackNumber(b.tracks, name)
 	return measured{i, b.tracks[i].Series.Den}
 }
 

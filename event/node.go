@@ -71,7 +71,7 @@ func (c condNumber) truth(now *moment) int {
 	if !x.Known {
 		return api.Unknown
 	}
-	return truthOf(holds(c.op, cmp.Compare(x.N, c.n)))
+	return truthOf(Holds(c.op, cmp.Compare(x.N, c.n)))
 }
 
 func (c condTracks) truth(now *moment) int {
@@ -79,7 +79,7 @@ func (c condTracks) truth(now *moment) int {
 	if !x.Known || !y.Known {
 		return api.Unknown
 	}
-	return truthOf(holds(c.op, Compare(x.N, c.one.den, y.N, c.other.den)))
+	return truthOf(Holds(c.op, Compare(x.N, c.one.den, y.N, c.other.den)))
 }
 
 func (c condSteady) truth(now *moment) int {

@@ -17,7 +17,7 @@ func CheckTracks(l []api.Track) api.Errno {
 		if !IsName(t.Name) {
 			return api.ErrName
 		}
-		if trackNumber(l[:i], t.Name) >= 0 {
+		if TrackNumber(l[:i], t.Name) >= 0 {
 			return api.ErrTwice
 		}
 		if e := series.Check(t.Series); e != api.OK {
@@ -41,8 +41,8 @@ func Inputs(l []api.Track, number int) ([]api.Told, api.Errno) {
 	return each(l, func(t api.Track) api.Told { return ToldIn(t, number, 1)[0] }), api.OK
 }
 
-// trackNumber returns the number of the track with a name, or -1.
-func trackNumber(l []api.Track, name string) int {
+// TrackNumber returns the number of the track with a name, or -1.
+func TrackNumber(l []api.Track, name string) int {
 	return slices.IndexFunc(l, func(t api.Track) bool { return t.Name == name })
 }
 
@@ -60,8 +60,8 @@ func Compare(a, denA, b, denB int) int {
 	return cmp.Or(cmp.Compare(a/denA, b/denB), cmp.Compare(a%denA*denB, b%denB*denA))
 }
 
-// holds reports whether numbers that have an order compare so.
-func holds(op, order int) bool {
+// Holds reports whether numbers that have an order compare so.
+func Holds(op, order int) bool {
 	switch op {
 	case api.Less:
 		return order < 0

@@ -78,7 +78,7 @@ func checkBoth(r api.Rules, l []api.Track) api.Errno {
 		return e
 	}
 	for _, name := range tracksOf(r) {
-		if trackNumber(l, name) < 0 {
+		if TrackNumber(l, name) < 0 {
 			return api.ErrNone
 		}
 	}

@@ -62,7 +62,7 @@ func checkTwins(l []api.Track, twins []api.Twins) api.Errno {
 		return api.ErrSize
 	}
 	for _, x := range twins {
-		if trackNumber(l, x.A) < 0 || trackNumber(l, x.B) < 0 {
+		if event.TrackNumber(l, x.A) < 0 || event.TrackNumber(l, x.B) < 0 {
 			return api.ErrNone
 		}
 		if x.Most < 0 || x.Most > series.MaxN {
@@ -82,7 +82,7 @@ func checkVote(l []api.Track, names []string, most int) ([voters]api.Track, api.
 		return tracks, api.ErrForm
 	}
 	for i, name := range names {
-		number := trackNumber(l, name)
+		number := event.TrackNumber(l, name)
 		if number < 0 {
 			return tracks, api.ErrNone
 		}
@@ -100,14 +100,9 @@ func checkVote(l []api.Track, names []string, most int) ([voters]api.Track, api.
 	return tracks, api.OK
 }
 
-// trackNumber returns the number of the track with a name, or -1.
-func trackNumber(l []api.Track, name string) int {
-	return slices.IndexFunc(l, func(t api.Track) bool { return t.Name == name })
-}
-
 // differing reports for each frame whether twins differ.
 func differing(l []api.Track, x api.Twins, first, last int) []bool {
-	one, other := l[trackNumber(l, x.A)], l[trackNumber(l, x.B)]
+	one, other := l[event.TrackNumber(l, x.A)], l[event.TrackNumber(l, x.B)]
 	a, b := event.ToldIn(one, first, last-first+1), event.ToldIn(other, first, last-first+1)
 	denA, denB := one.Series.Den, other.Series.Den
 	differ := make([]bool, len(a))

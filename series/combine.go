@@ -45,7 +45,7 @@ func Combine(a, b api.Series, op, long int) (api.Series, api.Errno) {
 	c := api.Series{Den: a.Den, Samples: make([]api.Sample, len(a.Samples))}
 	for i, x := range a.Samples {
 		c.Samples[i] = api.Sample{At: x.At, Mark: api.MarkLost}
-		y, ok := hold(b.Samples, x.At, long)
+		y, ok := Held(b.Samples, x.At, long)
 		if !ok || !isSolid(x) {
 			continue
 		}

@@ -19,7 +19,7 @@ func Hold(s api.Series, at, long int) (api.Sample, bool, api.Errno) {
 	if e := checkHold(s, at, long); e != api.OK {
 		return api.Sample{}, false, e
 	}
-	x, ok := hold(s.Samples, at, long)
+	x, ok := Held(s.Samples, at, long)
 	return x, ok, api.OK
 }
 
@@ -53,7 +53,7 @@ func Resample(s api.Series, from, step, count, long int) (api.Series, api.Errno)
 	r := api.Series{Den: s.Den, Samples: make([]api.Sample, count)}
 	for i := range r.Samples {
 		at := from + i*step
-		x, _ := hold(s.Samples, at, long) // without one it is a lost sample but for its time
+		x, _ := Held(s.Samples, at, long) // without one it is a lost sample but for its time
 		r.Samples[i] = api.Sample{At: at, N: x.N, Mark: x.Mark}
 	}
 	return r, api.OK
@@ -92,7 +92,8 @@ func checkHold(s api.Series, at, long int) api.Errno {
 	return api.OK
 }
 
-func hold(l []api.Sample, at, long int) (api.Sample, bool) {
+// Held is Hold of samples without errors, at any time.
+func Held(l []api.Sample, at, long int) (api.Sample, bool) {
 	i := ahead(l, at+1) - 1
 	if i < 0 || !isSolid(l[i]) || at-l[i].At > long {
 		return api.Sample{}, false
