@@ -116,8 +116,12 @@ func (b *builder) move(m api.Move) move {
 	return move{slices.Index(b.rules.Phases, m.From), slices.Index(b.rules.Phases, m.To), b.node(m.When)}
 }
 
+// measured returns for a missing track the number behind the last one, and a Den that is never asked for.
 func (b *builder) measured(name string) measured {
 	i := TrackNumber(b.tracks, name)
+	if i < 0 {
+		return measured{len(b.tracks), 1}
+	}
 	return measured{i, b.tracks[i].Series.Den}
 }
 

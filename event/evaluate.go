@@ -13,7 +13,7 @@ func Evaluate(r api.Rules, l []api.Track, from, to int) ([][]int, api.Errno) {
 		return nil, e
 	}
 	truths := make([][]int, len(r.Rules))
-	for found := range run(r, l, from, to) {
+	for found := range Run(r, l, from, to) {
 		for i, truth := range found {
 			truths[i] = append(truths[i], truth)
 		}
@@ -27,7 +27,7 @@ func Phases(r api.Rules, l []api.Track, from, to int) ([][]string, api.Errno) {
 		return nil, e
 	}
 	var phases [][]string
-	for _, w := range run(r, l, from, to) {
+	for _, w := range Run(r, l, from, to) {
 		phases = append(phases, w.Phase())
 	}
 	return phases, api.OK
@@ -59,8 +59,8 @@ func checkRun(r api.Rules, l []api.Track, from, to int) api.Errno {
 	return api.OK
 }
 
-// run yields the truths of the rules in each frame, and the watch that is behind this frame.
-func run(r api.Rules, l []api.Track, from, to int) iter.Seq2[[]int, *Watch] {
+// Run yields the truths of the rules in each frame, and the watch that is behind this frame. It wants no errors, but that tracks can be missing: these are never known.
+func Run(r api.Rules, l []api.Track, from, to int) iter.Seq2[[]int, *Watch] {
 	return func(yield func([]int, *Watch) bool) {
 		names := tracksOf(r)
 		l = slices.DeleteFunc(slices.Clone(l), func(t api.Track) bool { return !slices.Contains(names, t.Name) })
@@ -69,6 +69,7 @@ func run(r api.Rules, l []api.Track, from, to int) iter.Seq2[[]int, *Watch] {
 		w := watchOf(r, l)
 		for i := range frames {
 			x := each(told, func(t []api.Told) api.Told { return t[i] })
+			x = append(x, api.Told{}) // what all missing tracks are
 			if !yield(w.next(x), w) {
 				return
 			}

@@ -203,3 +203,26 @@ func TestEvents(t *testing.T) {
 	l := []api.Track{framed("x", 1, 0, row("15551")...)}
 	wantSame(t, "what is false outside of the evaluation", eventsOf(t, ruledBy(t, "rule a if x > 3"), l, 1, 3), []api.Event{{Rule: 0, From: 1, To: 3}})
 }
+
+// F3: where tracks are missing, Run goes on as if these were never known.
+func TestRunWithoutTracks(t *testing.T) {
+	r := dice(21)
+	for range 500 {
+		rules, l := someRules(r, 3, 4), someTracks(r, 5, 8)
+		r.Shuffle(3, func(i, k int) { l[i], l[k] = l[k], l[i] })
+		kept := r.IntN(3)
+		for i := range l[kept:] {
+			l[kept+i] = track(l[kept+i].Name, 7, 0)
+		}
+		want, phases := truthsOf(t, rules, l, 5, 12), phasesOf(t, rules, l, 5, 12)
+		frame := 0
+		for truths, w := range event.Run(rules, l[:kept], 5, 12) {
+			for rule, truth := range truths {
+				wantSame(t, fmt.Sprint("rule ", rule, " in the frame ", 5+frame), truth, want[rule][frame])
+			}
+			wantSame(t, fmt.Sprint("phases in the frame ", 5+frame), w.Phase(), phases[frame])
+			frame++
+		}
+		wantSame(t, "frames", frame, 8)
+	}
+}

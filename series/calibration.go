@@ -155,7 +155,7 @@ func possible(line api.Line, low, high int) (from, to int) {
 		first, last = high, low
 	}
 	from = max(line.From, ceil(first-line.B, line.A))
-	to = min(line.To, floor(last-line.B, line.A))
+	to = min(line.To, Floor(last-line.B, line.A))
 	return from, to
 }
 
@@ -164,7 +164,7 @@ func nearestFrom(line api.Line, from, to, n int) int {
 	if line.A == 0 {
 		return from
 	}
-	exact := floor(n-line.B, line.A)
+	exact := Floor(n-line.B, line.A)
 	lesser := min(max(exact, from), to)
 	greater := min(max(exact+1, from), to)
 	if size(numberOf(line, greater)-n) < size(numberOf(line, lesser)-n) {

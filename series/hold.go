@@ -6,10 +6,7 @@ import (
 	"orangebox/api"
 )
 
-const (
-	maxTicks = 1 << 30 // of a mean
-	maxMean  = 1 << 62 // the size of its numerator and its denominator
-)
+const maxTicks = 1 << 30 // of a mean
 
 // stretch is a number that is held for some ticks.
 type stretch struct{ n, ticks int }
@@ -103,8 +100,8 @@ func Held(l []api.Sample, at, long int) (api.Sample, bool) {
 
 // onLine wants a time between those of two samples. Sums and products of ints wrap around, so that the numerator is right if it is within an int, whatever its parts are.
 func onLine(a, b api.Sample, at int) api.Ratio {
-	share := lowest(at-a.At, b.At-a.At)
-	rise := lowest(b.N-a.N, share.Den)
+	share := Lowest(at-a.At, b.At-a.At)
+	rise := Lowest(b.N-a.N, share.Den)
 	return api.Ratio{Num: a.N*rise.Den + rise.Num*share.Num, Den: rise.Den}
 }
 
@@ -127,14 +124,10 @@ func stretches(l []api.Sample, from, to, long int) []stretch {
 func meanOf(l []stretch, ticks int) (api.Ratio, bool) {
 	whole, left := 0, 0 // the sum is ticks times whole, and left
 	for _, h := range l {
-		q := floor(h.n, ticks)
+		q := Floor(h.n, ticks)
 		whole += q * h.ticks
 		left += (h.n - q*ticks) * h.ticks
 	}
 	whole += left / ticks
-	part := lowest(left%ticks, ticks)
-	if whole > (maxMean-part.Num)/part.Den || whole < -((maxMean+part.Num)/part.Den) {
-		return api.Ratio{}, false
-	}
-	return api.Ratio{Num: whole*part.Den + part.Num, Den: part.Den}, true
+	return Mixed(whole, Lowest(left%ticks, ticks))
 }

@@ -81,7 +81,7 @@ func Steepest(s api.Series, long int) (api.Ratio, int, api.Errno) {
 		if b.At-a.At > long {
 			continue
 		}
-		change := lowest(size(b.N-a.N), b.At-a.At)
+		change := Lowest(size(b.N-a.N), b.At-a.At)
 		if number < 0 || isSteeper(change, steepest) {
 			steepest, number = change, b.number
 		}
