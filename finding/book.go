@@ -32,6 +32,19 @@ func Tracks(b api.Book) ([]api.Track, api.Errno) {
 	return read.plain(), api.OK
 }
 
+// Certain returns the tracks of a book, and for each sample of each of them whether it is solid, or wrong with words that are all solid.
+func Certain(b api.Book) ([]api.Track, [][]bool, api.Errno) {
+	read, e := readBook(b)
+	if e != api.OK {
+		return nil, nil, e
+	}
+	var certain [][]bool
+	for _, t := range read.tracks {
+		certain = append(certain, t.certain(read.isSolid))
+	}
+	return read.plain(), certain, api.OK
+}
+
 // Only returns the tracks that there are if all words but some are lost.
 func Only(b api.Book, l []api.Where) ([]api.Track, api.Errno) {
 	read, e := readBook(b)
@@ -88,24 +101,25 @@ func checkSources(l []api.Source, params []api.Param) api.Errno {
 		if paramNumber(params, s.Param) < 0 {
 			return api.ErrNone
 		}
-		if e := checkMeaning(s.Meaning); e != api.OK {
+		if e := CheckMeaning(s); e != api.OK {
 			return e
-		}
-		if s.Long < 0 || s.Long > series.MaxAt {
-			return api.ErrRange
 		}
 	}
 	return api.OK
 }
 
-func checkMeaning(l []api.Calibration) api.Errno {
-	if len(l) > 1 {
+// CheckMeaning returns what is wrong with a source but for its names.
+func CheckMeaning(s api.Source) api.Errno {
+	if len(s.Meaning) > 1 {
 		return api.ErrForm
 	}
-	for _, c := range l {
+	for _, c := range s.Meaning {
 		if e := series.CheckCalibration(c); e != api.OK {
 			return e
 		}
+	}
+	if s.Long < 0 || s.Long > series.MaxAt {
+		return api.ErrRange
 	}
 	return api.OK
 }

@@ -97,6 +97,7 @@ func TestWrongBooks(t *testing.T) {
 	for name, c := range wrongBooks(t) {
 		for function, l := range map[string][]any{
 			"Tracks":       results(finding.Tracks(c.book)),
+			"Certain":      results(finding.Certain(c.book)),
 			"Only":         results(finding.Only(c.book, []api.Where{{Number: -1}})),
 			"Words":        results(finding.Words(c.book, []string{"none"}, -1, -2)),
 			"Solid":        results(finding.Solid(c.book, []api.Where{{Number: -1}})),
@@ -107,6 +108,7 @@ func TestWrongBooks(t *testing.T) {
 			"Find":         results(finding.Find(c.book, r, -1, -2)),
 			"Order":        results(finding.Order(c.book, make([]api.Finding, 501))),
 			"Tell":         results(finding.Tell(c.book, api.Finding{})),
+			"TellAll":      results(finding.TellAll(c.book, nil)),
 		} {
 			wantWrong(t, function+" with "+name, l, c.errno)
 		}
@@ -140,6 +142,36 @@ func TestTracks(t *testing.T) {
 				wantErrno(t, "Calibrate", e, api.OK)
 			}
 			wantSame(t, "by chance", x, api.Track{Name: b.Sources[i].Track, Series: s, Long: b.Sources[i].Long})
+		}
+	}
+}
+
+// G1: Certain has the tracks, and what of them is solid, or wrong with words that are all solid.
+func TestCertain(t *testing.T) {
+	r := dice(13)
+	counts := map[string]int{}
+	for range 60 {
+		b := someBook(t, r)
+		tracks, certain, e := finding.Certain(b)
+		wantErrno(t, "Certain", e, api.OK)
+		wantSame(t, "tracks", fmt.Sprint(tracks), fmt.Sprint(tracksOf(t, b)))
+		for i, s := range b.Sources {
+			var want []bool
+			eachCell(t, b, s, func(_ api.Param, c api.Cell, first, _ int) {
+				mark := tracks[i].Series.Samples[len(want)].Mark
+				is := mark >= api.MarkMended || mark == api.MarkWrong && !slices.ContainsFunc(cellWords(c, first), func(w api.Where) bool { return !plainSolid(b, w) })
+				counts[fmt.Sprint(mark, is)]++
+				want = append(want, is)
+			})
+			if len(b.Rests) > 0 {
+				want = append(want, false) // the sample behind all others
+			}
+			wantSame(t, "certain", certain[i], want)
+		}
+	}
+	for _, kind := range []string{"0 false", "1 false", "1 true", "2 false", "3 true", "4 true"} {
+		if counts[kind] == 0 {
+			t.Errorf("no sample is %s", kind)
 		}
 	}
 }

@@ -113,6 +113,7 @@ func TestMemory(t *testing.T) {
 	for name, call := range map[string]func() []any{
 		"CheckBook":         func() []any { return results(finding.CheckBook(b)) },
 		"Tracks":            func() []any { return results(finding.Tracks(b)) },
+		"Certain":           func() []any { return results(finding.Certain(b)) },
 		"Only":              func() []any { return results(finding.Only(b, words)) },
 		"Words":             func() []any { return results(finding.Words(b, names, 3, 9)) },
 		"Solid":             func() []any { return results(finding.Solid(b, words)) },
@@ -127,6 +128,7 @@ func TestMemory(t *testing.T) {
 		"Clashes":           func() []any { return results(finding.Clashes(l, twins, 0, 19)) },
 		"Vote":              func() []any { return results(finding.Vote(l, three, 3, 0, 19)) },
 		"Tell":              func() []any { return results(finding.Tell(b, f)) },
+		"TellAll":           func() []any { return results(finding.TellAll(b, findings)) },
 		"a finding's words": func() []any { x, e := finding.Evidence(b, r, "a", 0, 9); return results(x.Words, e) },
 	} {
 		first, kept := call(), fmt.Sprint(call()...)

@@ -32,6 +32,21 @@ func TestTell(t *testing.T) {
 	wantSame(t, "600 words", s, "a is true in 0 from 0\n"+strings.Repeat("word 0 0 583 good\n", 600))
 }
 
+// G6: findings one behind the other; the error of the first one that has one.
+func TestTellAll(t *testing.T) {
+	b := climb(t, 0, 16)
+	one, other := found("over", 0, 5, api.True, wordsOf(5, 5, 3, 4)...), found("a", 1, 2, api.False)
+	s, e := finding.TellAll(b, []api.Finding{one, other, one})
+	wantErrno(t, "TellAll", e, api.OK)
+	told := "over is true in 5 from 0\nword 5 3 7 good\nword 5 4 5 good\n"
+	wantSame(t, "TellAll", s, told+"a is false in 2 from 1\n"+told)
+	wantWrong(t, "a name, then a truth", results(finding.TellAll(b, []api.Finding{one, found("A", 0, 0, api.True), found("a", 0, 0, 9)})), api.ErrName)
+	wantWrong(t, "a truth, then a name", results(finding.TellAll(b, []api.Finding{found("a", 0, 0, 9), found("A", 0, 0, api.True)})), api.ErrRange)
+	s, e = finding.TellAll(b, nil)
+	wantErrno(t, "TellAll of none", e, api.OK)
+	wantSame(t, "TellAll of none", s, "")
+}
+
 // G6: the errors of Tell in their order.
 func TestWrongTell(t *testing.T) {
 	b := climb(t, 0, 16)

@@ -73,6 +73,15 @@ func (t track) only(left map[api.Where]bool) api.Track {
 	return some
 }
 
+// certain reports for each sample whether it is solid, or wrong with words that are all solid. The last one lies in no words.
+func (t track) certain(isSolid func(api.Where) bool) []bool {
+	l := make([]bool, len(t.Series.Samples))
+	for i, x := range t.inWords() {
+		l[i] = x.Mark >= api.MarkMended || x.Mark == api.MarkWrong && !slices.ContainsFunc(t.words(i), func(w api.Where) bool { return !isSolid(w) })
+	}
+	return l
+}
+
 // within returns the frames, from one to another one, that a sample is held in; the first one is above the last one if there is none.
 func (t track) within(sample, first, last int) (from, to int) {
 	x := t.Series.Samples[sample]

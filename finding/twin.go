@@ -12,7 +12,7 @@ const voters = 3
 
 // Clashes returns the stretches of frames in which twins differ.
 func Clashes(l []api.Track, twins []api.Twins, first, last int) ([]api.Clash, api.Errno) {
-	if e := checkTwins(l, twins); e != api.OK {
+	if e := CheckTwins(l, twins); e != api.OK {
 		return nil, e
 	}
 	if e := checkFrames(first, last, event.MaxSpan); e != api.OK {
@@ -54,7 +54,8 @@ func Vote(l []api.Track, names []string, most, first, last int) (api.Track, []in
 	return voted, outvoted, api.OK
 }
 
-func checkTwins(l []api.Track, twins []api.Twins) api.Errno {
+// CheckTwins returns what is wrong with tracks, or with twins among them.
+func CheckTwins(l []api.Track, twins []api.Twins) api.Errno {
 	if e := event.CheckTracks(l); e != api.OK {
 		return e
 	}

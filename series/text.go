@@ -43,15 +43,19 @@ func Print(s api.Series) (string, api.Errno) {
 	}
 	var out strings.Builder
 	writeLine(&out, head, strconv.Itoa(s.Den))
-	words := markWords()
 	for _, x := range s.Samples {
-		if hasNumber(x) {
-			writeLine(&out, strconv.Itoa(x.At), words[x.Mark], strconv.Itoa(x.N))
-		} else {
-			writeLine(&out, strconv.Itoa(x.At), words[x.Mark])
-		}
+		writeLine(&out, SampleWords(x)...)
 	}
 	return out.String(), api.OK
+}
+
+// SampleWords returns the parts of the line for a sample without errors.
+func SampleWords(x api.Sample) []string {
+	words := []string{strconv.Itoa(x.At), markWords()[x.Mark]}
+	if hasNumber(x) {
+		words = append(words, strconv.Itoa(x.N))
+	}
+	return words
 }
 
 // markWords returns the words for marks, at their places.
@@ -75,7 +79,7 @@ func readHead(s *api.Series, words []string) bool {
 	if len(words) != 2 || words[0] != head {
 		return false
 	}
-	den, ok := readNumber(words[1])
+	den, ok := ReadNumber(words[1])
 	s.Den = den
 	return ok
 }
@@ -84,7 +88,7 @@ func readSample(s *api.Series, words []string) bool {
 	if len(words) < 2 {
 		return false
 	}
-	at, ok := readNumber(words[0])
+	at, ok := ReadNumber(words[0])
 	mark, known := readMark(words[1])
 	x := api.Sample{At: at, Mark: mark}
 	if !ok || !known {
@@ -97,7 +101,7 @@ func readSample(s *api.Series, words []string) bool {
 	if len(words) != 3 {
 		return false
 	}
-	x.N, ok = readNumber(words[2])
+	x.N, ok = ReadNumber(words[2])
 	s.Samples = append(s.Samples, x)
 	return ok
 }
@@ -111,7 +115,8 @@ func readMark(word string) (int, bool) {
 	return 0, false
 }
 
-func readNumber(word string) (int, bool) {
+// ReadNumber reads a number as it stands in texts.
+func ReadNumber(word string) (int, bool) {
 	digits := strings.TrimPrefix(word, "-")
 	if len(digits) == 0 || len(digits) > maxDigits || digits[0] == '0' && word != "0" {
 		return 0, false
